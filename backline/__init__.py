@@ -1,0 +1,1 @@
+"""Backline: hands that fall, and the line to which all go back."""
