@@ -1,6 +1,7 @@
-"""What several tests share: programs of hands, plain models of [4] to [12] and [19], and sound lines by trying all."""
+"""What several tests share: programs of hands, weavings by chance, plain models of [4] to [19], lines by trying all."""
 
 import itertools
+import random
 
 from backline.errors import WeaveError
 from backline.habits import Bundle, Each, Never
@@ -96,19 +97,67 @@ def random_row(loom, chance):
     return ("own", hand)
 
 
+class Weaving:
+    """A loom of two to five hands of all habits that is woven by chance; made_of is what it was made of."""
+
+    def __init__(self, seed):
+        self.chance = random.Random(seed)
+        many = 2 + seed % 4
+        starts = [self.chance.randrange(-50, 50) for hand in range(many)]
+        self.sizes = [self.chance.choice([0, 0, 1, 2, 3]) for hand in range(many)]
+        self.made_of = (mixing(many, seed), starts, [habit_of(size) for size in self.sizes], seed % 8 < 4)
+        self.loom = Loom(*self.made_of)
+
+    def weave(self, turns):
+        for turn in range(turns):
+            do_row(self.loom, random_row(self.loom, self.chance))
+
+    def some_hands(self):
+        """Any of the hands, none and all among them, in any order."""
+        return self.chance.sample(range(self.loom.many), self.chance.randrange(self.loom.many + 1))
+
+
+def sets_of_hands(many):
+    return [list(hands) for size in range(many + 1) for hands in itertools.combinations(range(many), size)]
+
+
+def all_lines(loom):
+    return [list(line) for line in itertools.product(*[range(place + 1) for place in loom.places()])]
+
+
+def plainly_allowed(loom, fallen):
+    """The allowed points, by the words of [15]."""
+    return [
+        sorted(set(loom.points(hand)) | (set() if hand in fallen else {here}))
+        for hand, here in enumerate(loom.places())
+    ]
+
+
+def plainly_broken(loom, line):
+    """The letters that break a line, by the words of [13]."""
+    sent, used = loom.letters_sent(), loom.letters_used()
+    return sorted(
+        name for name, (to, word) in sent.items()
+        if name in used and used[name] <= line[to] and name[1] > line[name[0]]
+    )
+
+
 def sound_lines(loom, fallen):
     """All lines that are allowed and sound for those that fell, by [13], [15], [16]."""
-    places = loom.places()
-    allowed = [
-        sorted(set(loom.points(hand)) | (set() if hand in fallen else {places[hand]}))
-        for hand in range(loom.many)
-    ]
     sent, used = loom.letters_sent(), loom.letters_used()
     uses = [(name[0], name[1], sent[name][0], used[name]) for name in used]
 
     def sound(line):
         return not any(at <= line[user] and place > line[sender] for sender, place, user, at in uses)
-    return [list(line) for line in itertools.product(*allowed) if sound(line)]
+    return [list(line) for line in itertools.product(*plainly_allowed(loom, fallen)) if sound(line)]
+
+
+def greatest_by_search(loom, fallen):
+    """The allowed and sound line that is at or beyond all others, by trying all [16]."""
+    lines = sound_lines(loom, fallen)
+    greatest = [max(places) for places in zip(*lines)]
+    assert greatest in lines
+    return greatest
 
 
 def refused(case, error, call, *arguments):
